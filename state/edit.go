@@ -5,6 +5,7 @@ import (
 	"slices"
 
 	"oxbow/api"
+	"oxbow/copies"
 	"oxbow/delta"
 	"oxbow/ot"
 )
@@ -62,7 +63,7 @@ func (m *machine) led(b *api.Branch, msg api.Message) ([]api.Op, api.Errno) {
 	if base != m.length(b.Log[msg.Rev]) {
 		return nil, api.ErrDeltaLength
 	}
-	d := copiedDelta(msg.Delta)
+	d := copies.Delta(msg.Delta)
 	for _, num := range b.Log[msg.Rev+1:] {
 		c, _ := m.commit(num)
 		if d, e = ot.Transform(d, c.Delta, false); e != api.OK {

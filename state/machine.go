@@ -10,30 +10,6 @@ import (
 // A machine is a state that is asked, or, if it is a copy, turned into the next one.
 type machine struct{ api.State }
 
-// copied is a state that shares no memory with another one.
-func copied(s api.State) api.State {
-	s.Commits = slices.Clone(s.Commits)
-	for i := range s.Commits {
-		c := &s.Commits[i]
-		c.Parents, c.Delta, c.Other = slices.Clone(c.Parents), copiedDelta(c.Delta), copiedDelta(c.Other)
-	}
-	s.Branches = slices.Clone(s.Branches)
-	for i := range s.Branches {
-		b := &s.Branches[i]
-		b.Name, b.Log = strings.Clone(b.Name), slices.Clone(b.Log)
-	}
-	s.Clients = slices.Clone(s.Clients)
-	return s
-}
-
-func copiedDelta(d []api.Op) []api.Op {
-	d = slices.Clone(d)
-	for i := range d {
-		d[i].Text = strings.Clone(d[i].Text)
-	}
-	return d
-}
-
 // commit is the commit of a number, if there is one.
 func (m *machine) commit(num int) (api.Commit, bool) {
 	at := slices.IndexFunc(m.Commits, func(c api.Commit) bool { return c.Num == num })
