@@ -32,3 +32,13 @@ func Delta(d []api.Op) []api.Op {
 	}
 	return d
 }
+
+// Editor is a copy of an editor, with all that waits.
+func Editor(e api.Editor) api.Editor {
+	e.Text = strings.Clone(e.Text)
+	e.Pending = slices.Clone(e.Pending)
+	for i := range e.Pending {
+		e.Pending[i].Delta = Delta(e.Pending[i].Delta)
+	}
+	return e
+}

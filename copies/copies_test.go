@@ -50,3 +50,22 @@ func TestDelta(t *testing.T) {
 		t.Errorf("the copy of nothing is %v", c)
 	}
 }
+
+func TestEditor(t *testing.T) {
+	sample := func() api.Editor {
+		return api.Editor{Client: 1, Branch: 2, Rev: 3, Text: "some", Seq: 2, Pending: slices.Grow([]api.Edit{{Seq: 1, Delta: []api.Op{{Kind: api.OpInsert, Text: "so"}}}, {Seq: 2, Delta: []api.Op{{Kind: api.OpKeep, N: 4}}}}, 3)}
+	}
+	e, want := sample(), fmt.Sprint(sample())
+	c := copies.Editor(e)
+	if fmt.Sprint(c) != want {
+		t.Errorf("the copy is %v, want %s", c, want)
+	}
+	c.Pending[0].Delta[0].Text, c.Pending[1].Seq, c.Text = "?", 9, "?"
+	c.Pending = append(c.Pending, api.Edit{Seq: 3})
+	if fmt.Sprint(e) != want || e.Pending[:3][2].Seq != 0 {
+		t.Errorf("what was copied is %v, and was %s", e, want)
+	}
+	if c := copies.Editor(api.Editor{}); len(c.Pending) != 0 || c.Text != "" {
+		t.Errorf("the copy of nothing is %v", c)
+	}
+}
