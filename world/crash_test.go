@@ -173,13 +173,13 @@ func TestEveryPointOfRecover(t *testing.T) {
 			t.Parallel()
 			cut := 0
 			for n, done := 0, false; !done; n++ {
-				for i, mask := range masks() {
+				for i, mask := range append(masks(), "up") {
 					// How the first fall ends: a crash with a mask, or the fuse is lifted.
 					fallen := func() *town {
 						x := newTown(t, 400, 100, 2).after(s.ahead...).after(fuse(s.party, n+1))
 						_, e := x.do(s.act)
 						done = e == api.OK && x.w.Up(s.party)
-						if i == 0 && !x.w.Up(s.party) {
+						if mask == "up" && !x.w.Up(s.party) {
 							return x.after(fuse(s.party, -1))
 						}
 						return x.after(crash(s.party, mask))
